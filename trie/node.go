@@ -1,9 +1,8 @@
 package trie
 
 import (
-	"math/bits"
-
 	"wayfinder/api"
+	"wayfinder/bit"
 	"wayfinder/pfx"
 )
 
@@ -17,16 +16,13 @@ type node[V any] struct {
 	sub   [2]*node[V] // by the first bit behind at
 }
 
-// side is the bit of a behind the first n; 0 when there is none.
-func side(a uint32, n int) int { return int(a << n >> 31) }
-
-// toward is the node below n on the way to a. (Below a whole address there is none: side answers 0, where nothing is.)
-func (n *node[V]) toward(a uint32) *node[V] { return n.sub[side(a, n.at.Len)] }
+// toward is the node below n on the way to a. (Below a whole address there is none: bit.After answers 0, where nothing is.)
+func (n *node[V]) toward(a uint32) *node[V] { return n.sub[bit.After(a, n.at.Len)] }
 
 // hang answers n with that part below it, on the side where its prefix lies.
 func (n *node[V]) hang(part *node[V]) *node[V] {
 	anew := *n
-	anew.sub[side(part.at.Addr, n.at.Len)] = part
+	anew.sub[bit.After(part.at.Addr, n.at.Len)] = part
 	return &anew
 }
 
@@ -44,14 +40,8 @@ func (n *node[V]) with(leaf *node[V]) (made *node[V], old V, had bool) {
 	case pfx.Covers(leaf.at, n.at):
 		return leaf.hang(n), old, false
 	}
-	fork := &node[V]{at: shared(n.at, leaf.at)}
+	fork := &node[V]{at: bit.Shared(n.at, leaf.at)}
 	return fork.hang(n).hang(leaf), old, false
-}
-
-// shared is the longest prefix that covers both; neither covers the other.
-func shared(p, q api.Prefix) api.Prefix {
-	same := bits.LeadingZeros32(p.Addr ^ q.Addr)
-	return api.Prefix{Addr: p.Addr &^ (^uint32(0) >> same), Len: same}
 }
 
 // without answers what n becomes when what stands under p is dropped, and that. n may be nil.
@@ -70,7 +60,7 @@ func (n *node[V]) without(p api.Prefix) (made *node[V], old V, had bool) {
 		return n, old, false
 	}
 	anew := *n
-	anew.sub[side(p.Addr, n.at.Len)] = part
+	anew.sub[bit.After(p.Addr, n.at.Len)] = part
 	return anew.slim(), old, true
 }
 
