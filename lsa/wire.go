@@ -1,5 +1,7 @@
 package lsa
 
+import "wayfinder/wire"
+
 // turns are the bits that are turned in the check when a 1 falls out of it.
 const turns = 0x04c11db7
 
@@ -15,17 +17,13 @@ func check(b []byte) int {
 	return int(sum)
 }
 
-// writer puts numbers behind each other as bytes, the highest byte first.
+// writer puts numbers behind each other as bytes.
 type writer struct {
 	bytes []byte
 }
 
 // number puts n, of which size bytes hold all.
-func (w *writer) number(size, n int) {
-	for i := range size {
-		w.bytes = append(w.bytes, byte(n>>(8*(size-1-i))))
-	}
-}
+func (w *writer) number(size, n int) { w.bytes = wire.Put(w.bytes, size, n) }
 
 // reader takes numbers off the front of bytes.
 type reader struct {
@@ -39,10 +37,7 @@ func (r *reader) number(size int) int {
 		r.rest, r.short = nil, true
 		return 0
 	}
-	n := 0
-	for i := range size {
-		n = n<<8 | int(r.rest[i])
-	}
+	n := wire.Number(r.rest[:size])
 	r.rest = r.rest[size:]
 	return n
 }
